@@ -1,0 +1,1 @@
+"""Broadcast trees whose links change while messages are in flight."""

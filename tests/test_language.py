@@ -1,0 +1,102 @@
+"""Those rules of the language that can be seen from the files alone."""
+
+import ast
+import builtins
+import pathlib
+import re
+import unittest
+
+FOLDER = pathlib.Path(__file__).resolve().parent.parent / "relinktree"
+FILES = sorted(FOLDER.glob("*.py"))
+TREES = {file: ast.parse(file.read_text(encoding="utf-8")) for file in FILES}
+SPECIAL = {"__init__", "__eq__", "__repr__", "__str__", "__len__", "__enter__", "__exit__", "__call__", "__iter__"}
+BUILTINS = {
+    "len", "range", "enumerate", "zip", "min", "max", "sum", "abs", "sorted", "reversed", "int", "str", "bool", "bytes",
+    "list", "tuple", "dict", "set", "frozenset", "isinstance", "ord", "repr", "any", "all", "divmod", "iter", "next",
+    "Exception", "ValueError", "TypeError", "KeyError", "IndexError", "LookupError", "ZeroDivisionError",
+    "ArithmeticError", "OverflowError", "RuntimeError", "NotImplementedError", "AttributeError", "StopIteration",
+    "NotImplemented",
+}
+# These take a list instead of a generator expression, because classes of the package have __eq__.
+TAKE_LISTS = {"any", "all", "min", "max", "sum", "sorted"}
+BARRED = re.compile(
+    r"\b(type|typing|typing_extensions|enum|Enum|IntEnum|StrEnum|Flag|IntFlag|Generic|Protocol|ABC|ABCMeta|namedtuple"
+    r"|NamedTuple|TypedDict|TYPE_CHECKING|abstractmethod)\b|dataclass|overload|contextmanager"
+)
+
+
+def nodes(kinds):
+    return [(file, node) for file, tree in TREES.items() for node in ast.walk(tree) if isinstance(node, kinds)]
+
+
+class Files(unittest.TestCase):
+    def test_the_folder_holds_only_plain_files(self):
+        self.assertIn(FOLDER / "__init__.py", FILES)
+        for entry in FOLDER.iterdir():
+            if entry.name != "__pycache__":
+                self.assertRegex(entry.name, r"^(__init__|[a-z][a-z0-9_]*)\.py$")
+
+    def test_characters_and_sizes(self):
+        for file in FILES:
+            text = file.read_text(encoding="utf-8")
+            self.assertRegex(text, r"\A[ -~\n]*\Z", file)
+            lines = text.split("\n")
+            self.assertLess(len(lines), 400, file)
+            self.assertLessEqual(max(len(line) for line in lines), 120, file)
+
+    def test_functions_are_short(self):
+        for file, node in nodes(ast.FunctionDef):
+            self.assertLessEqual(node.end_lineno - node.lineno + 1, 40, (file, node.name))
+
+    def test_barred_words(self):
+        for file in FILES:
+            self.assertIsNone(BARRED.search(file.read_text(encoding="utf-8")), file)
+
+
+class Code(unittest.TestCase):
+    def test_imports(self):
+        self.assertEqual(nodes(ast.Import), [])
+        for file, node in nodes(ast.ImportFrom):
+            self.assertEqual(node.level, 0)
+            self.assertIn(FOLDER / (node.module.removeprefix("relinktree.") + ".py"), FILES, file)
+            self.assertIn(node, TREES[file].body)
+
+    def test_module_level(self):
+        for file, tree in TREES.items():
+            for node in tree.body:
+                plain = (ast.ImportFrom, ast.FunctionDef, ast.ClassDef, ast.Assign)
+                docstring = isinstance(node, ast.Expr) and isinstance(node.value, ast.Constant)
+                self.assertTrue(docstring or isinstance(node, plain), (file, node.lineno))
+
+    def test_names(self):
+        for file, node in nodes((ast.FunctionDef, ast.ClassDef)):
+            self.assertTrue(node.name in SPECIAL or not node.name.startswith("_"), (file, node.name))
+        for file, node in nodes(ast.Name):
+            self.assertFalse(node.id.startswith("_"), (file, node.id))
+
+    def test_builtins(self):
+        for file, node in nodes(ast.Name):
+            if node.id in vars(builtins):
+                self.assertIn(node.id, BUILTINS, (file, node.lineno))
+                self.assertIsInstance(node.ctx, ast.Load, (file, node.lineno))
+        for file, node in nodes(ast.arg):
+            self.assertNotIn(node.arg, vars(builtins), (file, node.lineno))
+
+    def test_generator_expressions(self):
+        for file, node in nodes(ast.Call):
+            if isinstance(node.func, ast.Name) and node.func.id in TAKE_LISTS:
+                for argument in node.args:
+                    self.assertNotIsInstance(argument, ast.GeneratorExp, (file, node.lineno))
+
+    def test_identity_only_with_constants(self):
+        for file, node in nodes(ast.Compare):
+            for sign, value in zip(node.ops, node.comparators):
+                if isinstance(sign, (ast.Is, ast.IsNot)):
+                    self.assertTrue(isinstance(value, ast.Constant), (file, node.lineno))
+                    self.assertIn(value.value, (None, True, False), (file, node.lineno))
+
+    def test_constructs_that_are_barred(self):
+        self.assertEqual(nodes((ast.Global, ast.AsyncFunctionDef, ast.Await, ast.Div)), [])
+        for file, node in nodes(ast.Constant):
+            self.assertNotIsInstance(node.value, float, file)
+            self.assertFalse(isinstance(node.value, str) and "%" in node.value, file)
