@@ -1,6 +1,7 @@
 """Relinks: pairs (path, cut) that add one link to a tree and remove another one."""
 
 from relinktree.errors import InvalidRelink, UnknownHost
+from relinktree.integers import is_index
 from relinktree.names import is_host_name
 
 SHORTEST_PATH = 3
@@ -23,10 +24,7 @@ def is_relink_path(value):
 
 def is_cut_of(path, value):
     """Whether the value is the index of a host of the path that has a next host."""
-    # True and False are no integers here, although Python counts them as such.
-    if not isinstance(value, int) or isinstance(value, bool):
-        return False
-    return 0 <= value <= len(path) - 2
+    return is_index(value, len(path) - 1)
 
 
 def check_relink(value):

@@ -69,6 +69,147 @@ raises InvalidTree(reason='connected', value='b')
 >>> from relinktree.relinks import are_independent
 >>> are_independent((("a", "b", "c"), 0), (("d", "e", "a"), 1))
 False
+
+>>> from relinktree.items import is_item
+>>> [is_item(("message", "a", "hi", 0)), is_item(("yes", ("a", "b", "c"), 1)), is_item(("bye", "a"))]
+[True, True, False]
+
+>>> from relinktree.items import item_text
+>>> [item_text(("message", "a", "hi", 1)), item_text(("go", ("a", "b", "c"), 1)), item_text(("bye",))]
+['message a hi 1', 'go a,b,c 1', 'bye']
+
+>>> from relinktree.items import parse_item
+>>> parse_item("ask c,b,a 0")
+('ask', ('c', 'b', 'a'), 0)
+
+>>> from relinktree.items import parse_item
+>>> parse_item("message a hi 2")
+raises InvalidText(value='message a hi 2')
+
+>>> from relinktree.channels import Channels
+>>> channels = Channels()
+>>> channels.put("a", "b", ("bye",))
+>>> [len(channels), channels == Channels()]
+[1, False]
+
+>>> from relinktree.channels import Channels
+>>> Channels().put("a", "a", ("bye",))
+raises InvalidName(value='a')
+
+>>> from relinktree.channels import Channels
+>>> channels = Channels()
+>>> channels.put("a", "b", ("message", "a", "one", 0))
+>>> channels.put("a", "b", ("bye",))
+>>> [channels.take("a", "b"), channels.in_flight("a", "b")]
+[('message', 'a', 'one', 0), [('bye',)]]
+
+>>> from relinktree.channels import Channels
+>>> channels = Channels()
+>>> channels.put("b", "a", ("bye",))
+>>> [channels.busy(), channels.in_flight("a", "b")]
+[[('b', 'a')], []]
+
+>>> from relinktree.channels import Channels
+>>> channels = Channels()
+>>> channels.put("b", "a", ("bye",))
+>>> [channels.discard_to("b"), channels.discard_to("a"), len(channels)]
+[0, 1, 0]
+
+>>> from relinktree.channels import Channels
+>>> channels = Channels()
+>>> twin = channels.copied()
+>>> twin.put("a", "b", ("bye",))
+>>> [len(channels), len(twin)]
+[0, 1]
+
+>>> from relinktree.roles import forward_bit
+>>> relink = (("a", "b", "c", "d"), 1)
+>>> [forward_bit(relink, "c", "turned", None, "d", 0), forward_bit(relink, "c", "turned", "b", "d", 0)]
+[1, 0]
+
+>>> from relinktree.roles import forward_bit
+>>> relink = (("a", "b", "c", "d"), 1)
+>>> [forward_bit(relink, "d", "turned", "c", "a", 0), forward_bit(relink, "d", "turned", "c", "a", 1)]
+[None, 0]
+
+>>> from relinktree.roles import forwards
+>>> forwards(["c", "a", "x"], source="c")
+[('a', 0), ('x', 0)]
+
+>>> from relinktree.roles import forwards
+>>> relink = (("a", "b", "c", "d"), 1)
+>>> forwards(["a", "c", "x"], source="x", relink=relink, host="d", phase="turned")
+[('a', 0), ('c', 0)]
+
+>>> from relinktree.roles import control_step
+>>> relink = (("a", "b", "c"), 1)
+>>> control_step(relink, "c", "ask")
+([('b', 'yes')], 'turned', 'a', 'b', None)
+
+>>> from relinktree.roles import control_step
+>>> relink = (("a", "b", "c"), 1)
+>>> control_step(relink, "b", "go")
+([('c', 'go'), ('a', 'back')], 'free', None, 'c', None)
+
+>>> from relinktree.roles import control_step
+>>> control_step((("a", "b", "c"), 0), "a", "yes")
+([('b', 'go')], 'free', 'c', 'b', 'done')
+
+>>> from relinktree.hosts import Host
+>>> host = Host("b", links=["c", "a"])
+>>> [repr(host), host == Host("b", links=["a", "c"])]
+["Host('b', links=['a', 'c'])", True]
+
+>>> from relinktree.hosts import Host
+>>> host = Host("b", links=["c", "a"], log=[("a", "hi")])
+>>> [host.name(), host.log(), host.links(), host.answers()]
+['b', [('a', 'hi')], ['a', 'c'], []]
+
+>>> from relinktree.hosts import Host
+>>> host = Host("a", links=["b"])
+>>> sends = host.ask(("a", "b", "c"), 1)
+>>> [host.relink(), host.phase(), host.waits_for(), host.queue()]
+[(('a', 'b', 'c'), 1), 'reserved', 'c', []]
+
+>>> from relinktree.hosts import Host
+>>> host = Host("b", links=["c", "a"])
+>>> [host.write("hi"), host.log()]
+[[('a', ('message', 'b', 'hi', 0)), ('c', ('message', 'b', 'hi', 0))], [('b', 'hi')]]
+
+>>> from relinktree.hosts import Host
+>>> Host("a", links=["b"]).ask(("a", "b", "c"), 1)
+[('b', ('ask', ('a', 'b', 'c'), 1))]
+
+>>> from relinktree.hosts import Host
+>>> Host("a", links=["b"]).ask(("a", "c", "b"), 1)
+raises NotLinked(host='a', other='c')
+
+>>> from relinktree.hosts import Host
+>>> host = Host("b", links=["a", "c"])
+>>> [host.receive("a", ("message", "a", "hi", 0)), host.log()]
+[[('c', ('message', 'a', 'hi', 0))], [('a', 'hi')]]
+
+>>> from relinktree.hosts import Host
+>>> host = Host("c", links=["b"])
+>>> [host.receive("b", ("ask", ("a", "b", "c"), 1)), host.links(), host.phase(), host.waits_for()]
+[[('b', ('yes', ('a', 'b', 'c'), 1))], ['a'], 'turned', 'a']
+
+>>> from relinktree.hosts import Host
+>>> host = Host("b", links=["c"])
+>>> host.add_link("a")
+>>> host.links()
+['a', 'c']
+
+>>> from relinktree.hosts import Host
+>>> Host("b", links=["c"]).leave()
+[('c', ('bye',))]
+
+>>> from relinktree.hosts import Host
+>>> host = Host("b", links=["c"])
+>>> twin = host.copied()
+>>> sends = twin.write("hi")
+>>> [host.log(), twin.log()]
+[[], [('b', 'hi')]]
 '''
 
 
@@ -87,7 +228,7 @@ def outcome(lines):
 class Examples(unittest.TestCase):
     def test_every_example(self):
         examples = EXAMPLES.strip().split("\n\n")
-        self.assertEqual(len(examples), 15)
+        self.assertEqual(len(examples), 43)
         for example in examples:
             *lines, expected = example.split("\n")
             with self.subTest(example=example):

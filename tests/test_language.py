@@ -19,6 +19,16 @@ BUILTINS = {
 }
 # These take a list instead of a generator expression, because classes of the package have __eq__.
 TAKE_LISTS = {"any", "all", "min", "max", "sum", "sorted"}
+METHODS_OF_VALUES = {
+    "append", "clear", "copy", "count", "endswith", "extend", "find", "get", "index", "insert", "isalnum", "isalpha",
+    "isdigit", "islower", "isspace", "isupper", "items", "join", "keys", "ljust", "lower", "lstrip", "partition", "pop",
+    "remove", "replace", "reverse", "rfind", "rjust", "rpartition", "rsplit", "rstrip", "setdefault", "split",
+    "splitlines", "startswith", "strip", "update", "upper", "values", "zfill", "bit_length",
+}
+# Names of which a method of a string, a list or a dict would be called instead.
+TAKEN = {name for kind in (str, int, bytes, list, tuple, dict, set) for name in dir(kind)} - {
+    "add", "count", "copy", "discard", "find", "get", "index", "join", "lower", "split", "strip", "title", "upper",
+}
 BARRED = re.compile(
     r"\b(type|typing|typing_extensions|enum|Enum|IntEnum|StrEnum|Flag|IntFlag|Generic|Protocol|ABC|ABCMeta|namedtuple"
     r"|NamedTuple|TypedDict|TYPE_CHECKING|abstractmethod)\b|dataclass|overload|contextmanager"
@@ -27,6 +37,17 @@ BARRED = re.compile(
 
 def nodes(kinds):
     return [(file, node) for file, tree in TREES.items() for node in ast.walk(tree) if isinstance(node, kinds)]
+
+
+def methods():
+    """The names of the methods of all classes."""
+    bodies = [node.body for _, node in nodes(ast.ClassDef)]
+    return {part.name for body in bodies for part in body if isinstance(part, ast.FunctionDef)}
+
+
+def attributes():
+    """The names of the attributes that are assigned anywhere."""
+    return {node.attr for _, node in nodes(ast.Attribute) if isinstance(node.ctx, ast.Store)}
 
 
 class Files(unittest.TestCase):
@@ -100,3 +121,43 @@ class Code(unittest.TestCase):
         for file, node in nodes(ast.Constant):
             self.assertNotIsInstance(node.value, float, file)
             self.assertFalse(isinstance(node.value, str) and "%" in node.value, file)
+
+    def test_no_name_is_a_method_and_an_attribute(self):
+        self.assertEqual(methods() & attributes(), set())
+        self.assertEqual((methods() | attributes()) & TAKEN - SPECIAL, set())
+
+    def test_only_known_methods_and_attributes_are_used(self):
+        known = attributes() | methods() | METHODS_OF_VALUES
+        for file, node in nodes(ast.Attribute):
+            self.assertIn(node.attr, known, (file, node.lineno))
+
+    def test_imported_names_and_classes_mean_nothing_else(self):
+        for file, tree in TREES.items():
+            imported = {alias.name for part in tree.body if isinstance(part, ast.ImportFrom) for alias in part.names}
+            imported |= {part.name for part in tree.body if isinstance(part, ast.ClassDef)}
+            for node in ast.walk(tree):
+                if isinstance(node, ast.arg):
+                    self.assertNotIn(node.arg, imported, (file, node.lineno))
+                if isinstance(node, ast.Name) and not isinstance(node.ctx, ast.Load):
+                    self.assertNotIn(node.id, imported, (file, node.lineno))
+
+    def test_files_import_each_other_in_one_direction(self):
+        uses = {
+            file.stem: {part.module.removeprefix("relinktree.") for part in tree.body if isinstance(part, ast.ImportFrom)}
+            for file, tree in TREES.items()
+        }
+        while uses:
+            ready = [name for name in uses if not uses[name] & set(uses)]
+            self.assertNotEqual(ready, [], uses)
+            for name in ready:
+                del uses[name]
+
+    def test_special_methods(self):
+        for file, node in nodes(ast.FunctionDef):
+            if node.name in ("__len__", "__repr__"):
+                self.assertIsInstance(node.body[-1], ast.Return, (file, node.name))
+            if node.name == "__len__":
+                self.assertEqual(node.body[-1].value.func.id, "len", file)
+            if node.name in ("__eq__", "__len__", "__repr__"):
+                for part in ast.walk(node):
+                    self.assertNotIsInstance(part, (ast.Assign, ast.AugAssign, ast.Delete), (file, node.name))
