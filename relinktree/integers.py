@@ -1,12 +1,15 @@
-"""Integers from 0 on, as bits and cuts, and how they are written."""
+"""Integers from 0 on, as bits, cuts and numbers of deliveries, and how they are written."""
+
+
+def is_integer_from(value, least):
+    """Whether the value, of any kind, is an integer that is not less than `least`."""
+    # True and False are no integers here, although Python counts them as such.
+    return isinstance(value, int) and not isinstance(value, bool) and value >= least
 
 
 def is_index(value, size):
     """Whether the value, of any kind, is an integer from 0 to size - 1."""
-    # True and False are no integers here, although Python counts them as such.
-    if not isinstance(value, int) or isinstance(value, bool):
-        return False
-    return 0 <= value < size
+    return is_integer_from(value, 0) and value < size
 
 
 def parse_index(text, size):

@@ -210,6 +210,147 @@ raises NotLinked(host='a', other='c')
 >>> sends = twin.write("hi")
 >>> [host.log(), twin.log()]
 [[], [('b', 'hi')]]
+
+>>> from relinktree.trees import Tree
+>>> from relinktree.networks import Network
+>>> tree = Tree(["a", "b"], [("a", "b")])
+>>> [len(Network(tree)), Network(tree) == Network(tree), Network(tree) == tree]
+[2, True, False]
+
+>>> from relinktree.trees import Tree
+>>> from relinktree.networks import Network
+>>> network = Network(Tree(["b", "a"], [("a", "b")]))
+>>> [network.hosts(), network.member("b").links(), network.first_tree().links()]
+[['a', 'b'], ['a'], [('a', 'b')]]
+
+>>> from relinktree.trees import Tree
+>>> from relinktree.networks import Network
+>>> network = Network(Tree(["a", "b"], [("a", "b")]))
+>>> network.write("a", "hi")
+>>> [network.busy(), network.in_flight("a", "b"), network.is_at_rest()]
+[[('a', 'b')], [('message', 'a', 'hi', 0)], False]
+
+>>> from relinktree.trees import Tree
+>>> from relinktree.networks import Network
+>>> network = Network(Tree(["a", "b"], [("a", "b")]))
+>>> network.write("c", "hi")
+raises UnknownHost(host='c')
+
+>>> from relinktree.trees import Tree
+>>> from relinktree.networks import Network
+>>> network = Network(Tree(["a", "b", "c"], [("a", "b"), ("b", "c")]))
+>>> network.ask(("a", "b", "c"), 1)
+>>> [network.in_flight("a", "b"), network.member("a").phase()]
+[[('ask', ('a', 'b', 'c'), 1)], 'reserved']
+
+>>> from relinktree.trees import Tree
+>>> from relinktree.networks import Network
+>>> network = Network(Tree(["a", "b", "c"], [("a", "b"), ("b", "c")]))
+>>> network.write("a", "hi")
+>>> [network.deliver("a", "b"), network.busy(), network.member("b").log()]
+[('message', 'a', 'hi', 0), [('b', 'c')], [('a', 'hi')]]
+
+>>> from relinktree.trees import Tree
+>>> from relinktree.networks import Network
+>>> Network(Tree(["a", "b"], [("a", "b")])).deliver("b", "a")
+raises EmptyChannel(source='b', goal='a')
+
+>>> from relinktree.trees import Tree
+>>> from relinktree.networks import Network
+>>> network = Network(Tree(["a"]))
+>>> network.write("a", "hi")
+>>> network.add_leaf("b", at="a")
+>>> [network.member("b").log(), network.member("b").links(), network.member("a").links()]
+[[('a', 'hi')], ['a'], ['b']]
+
+>>> from relinktree.trees import Tree
+>>> from relinktree.networks import Network
+>>> network = Network(Tree(["a", "b"], [("a", "b")]))
+>>> network.write("a", "hi")
+>>> network.remove_leaf("b")
+>>> [network.hosts(), network.busy(), network.in_flight("b", "a")]
+[['a'], [('b', 'a')], [('bye',)]]
+
+>>> from relinktree.trees import Tree
+>>> from relinktree.networks import Network
+>>> network = Network(Tree(["a", "b"], [("a", "b")]))
+>>> network.do(("write", "a", "hi"))
+>>> [network.do(("deliver", "a", "b")), network.events()]
+[('message', 'a', 'hi', 0), [('write', 'a', 'hi'), ('deliver', 'a', 'b')]]
+
+>>> from relinktree.trees import Tree
+>>> from relinktree.networks import Network
+>>> Network(Tree(["a"])).do(("write", "a"))
+raises InvalidEvent(value=('write', 'a'))
+
+>>> from relinktree.trees import Tree
+>>> from relinktree.networks import Network
+>>> network = Network(Tree(["a"]))
+>>> twin = network.copied()
+>>> twin.write("a", "hi")
+>>> [network.events(), twin.events()]
+[[], [('write', 'a', 'hi')]]
+
+>>> from relinktree.trees import Tree
+>>> from relinktree.networks import Network
+>>> from relinktree.runs import settle
+>>> network = Network(Tree(["a", "b", "c"], [("a", "b"), ("b", "c")]))
+>>> network.ask(("a", "b", "c"), 1)
+>>> [settle(network), network.member("a").answers(), network.member("a").links()]
+[7, [(('a', 'b', 'c'), 1, 'done')], ['b', 'c']]
+
+>>> from relinktree.trees import Tree
+>>> from relinktree.networks import Network
+>>> from relinktree.runs import settle
+>>> network = Network(Tree(["a", "b", "c"], [("a", "b"), ("b", "c")]))
+>>> network.write("b", "hi")
+>>> settle(network, choices=[1], most=1)
+raises TooMany(limit=1)
+
+>>> from relinktree.trees import Tree
+>>> from relinktree.networks import Network
+>>> from relinktree.runs import settle, tree_at_rest
+>>> network = Network(Tree(["a", "b", "c"], [("a", "b"), ("b", "c")]))
+>>> network.ask(("a", "b", "c"), 0)
+>>> count = settle(network)
+>>> tree_at_rest(network).links()
+[('a', 'c'), ('b', 'c')]
+
+>>> from relinktree.trees import Tree
+>>> from relinktree.pasts import message_pasts
+>>> tree = Tree(["a", "b"], [("a", "b")])
+>>> message_pasts(tree, [("write", "a", "x"), ("deliver", "a", "b"), ("write", "b", "x")])
+[('a', 'x', ()), ('b', 'x', (0,))]
+
+>>> from relinktree.trees import Tree
+>>> from relinktree.pasts import log_indexes
+>>> tree = Tree(["a", "b"], [("a", "b")])
+>>> events = [("write", "a", "x"), ("write", "b", "x"), ("deliver", "a", "b")]
+>>> log_indexes(tree, events, "b")
+[1, 0]
+
+>>> from relinktree.trees import Tree
+>>> from relinktree.networks import Network
+>>> from relinktree.reports import reason
+>>> network = Network(Tree(["a", "b", "c"], [("a", "b"), ("b", "c")]))
+>>> network.ask(("a", "b", "c"), 1)
+>>> [reason(network, "a"), reason(network, "b")]
+[[('a', 'ask', 'a', 'b', 0)], []]
+
+>>> from relinktree.trees import Tree
+>>> from relinktree.networks import Network
+>>> from relinktree.reports import is_reason
+>>> network = Network(Tree(["a", "b"], [("a", "b")]))
+>>> [is_reason(network, "a", []), is_reason(network, "a", None)]
+[True, False]
+
+>>> from relinktree.trees import Tree
+>>> from relinktree.networks import Network
+>>> from relinktree.reports import whereabouts
+>>> network = Network(Tree(["a", "b"], [("a", "b")]))
+>>> network.write("a", "x")
+>>> whereabouts(network, "a", "x")
+([('a', 1)], [('a', 'b', 0)])
 '''
 
 
@@ -222,13 +363,13 @@ def outcome(lines):
         return repr(eval(lines[-1], names))
     except (errors.RelinkTreeError, LookupError, RuntimeError, ArithmeticError) as error:
         fields = ", ".join([f"{name}={value!r}" for name, value in vars(error).items()])
-        return f"raises {type(error).__name__}({fields})"
+        return f"raises {type(error).__name__}({fields})" if fields else f"raises {type(error).__name__}"
 
 
 class Examples(unittest.TestCase):
     def test_every_example(self):
         examples = EXAMPLES.strip().split("\n\n")
-        self.assertEqual(len(examples), 43)
+        self.assertEqual(len(examples), 63)
         for example in examples:
             *lines, expected = example.split("\n")
             with self.subTest(example=example):

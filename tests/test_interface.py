@@ -3,9 +3,10 @@
 import inspect
 import unittest
 
-from relinktree import channels, errors, hosts, items, names, relinks, roles, trees
+from relinktree import channels, errors, hosts, items, names, networks, pasts, relinks, reports, roles, runs, trees
 from relinktree.channels import Channels
 from relinktree.hosts import Host
+from relinktree.networks import Network
 from relinktree.trees import Tree
 
 FUNCTIONS = {
@@ -20,9 +21,14 @@ FUNCTIONS = {
         "forwards": "(links, *, source=None, bit=0, relink=None, host=None, phase='reserved')",
         "control_step": "(relink, host, kind)",
     },
+    runs: {"settle": "(network, *, choices=(), most=2000)", "tree_at_rest": "(network)"},
+    pasts: {"message_pasts": "(tree, events)", "log_indexes": "(tree, events, host)"},
+    reports: {
+        "reason": "(network, host)", "is_reason": "(network, host, value)", "whereabouts": "(network, writer, word)",
+    },
 }
 
-CLASSES = {trees: Tree, channels: Channels, hosts: Host}
+CLASSES = {trees: Tree, channels: Channels, hosts: Host, networks: Network}
 
 METHODS = {
     Tree: {
@@ -41,6 +47,13 @@ METHODS = {
         "write": "(self, word)", "ask": "(self, path, cut)", "receive": "(self, source, item)",
         "add_link": "(self, other)", "leave": "(self)", "copied": "(self)", "__eq__": "(self, other)",
         "__repr__": "(self)",
+    },
+    Network: {
+        "__init__": "(self, tree)", "hosts": "(self)", "member": "(self, name)", "first_tree": "(self)",
+        "busy": "(self)", "in_flight": "(self, source, goal)", "is_at_rest": "(self)", "write": "(self, host, word)",
+        "ask": "(self, path, cut)", "deliver": "(self, source, goal)", "add_leaf": "(self, name, *, at)",
+        "remove_leaf": "(self, host)", "do": "(self, event)", "events": "(self)", "copied": "(self)",
+        "__eq__": "(self, other)", "__len__": "(self)",
     },
 }
 
@@ -116,3 +129,26 @@ class ArgumentsByName(unittest.TestCase):
         self.assertEqual(tree.path(other="c", one="a"), ("a", "b", "c"))
         self.assertEqual(tree.relinked(cut=0, path=("a", "b", "c")).links(), [("a", "c"), ("b", "c")])
         self.assertEqual(Tree(hosts=["a"]).links(), [])
+
+    def test_methods_of_networks(self):
+        network = Network(tree=Tree(["a", "b"], [("a", "b")]))
+        self.assertEqual(network.member(name="a").links(), ["b"])
+        self.assertIsNone(network.write(word="hi", host="a"))
+        self.assertEqual(network.in_flight(goal="b", source="a"), [("message", "a", "hi", 0)])
+        self.assertEqual(network.deliver(goal="b", source="a"), ("message", "a", "hi", 0))
+        self.assertIsNone(network.add_leaf(at="b", name="c"))
+        self.assertIsNone(network.ask(cut=1, path=("a", "b", "c")))
+        self.assertIsNone(network.remove_leaf(host="c"))
+        self.assertIsNone(network.do(event=("write", "b", "x")))
+
+    def test_functions_of_runs_pasts_and_reports(self):
+        tree = Tree(["a", "b"], [("a", "b")])
+        network = Network(tree)
+        network.write("a", "x")
+        self.assertEqual(reports.whereabouts(word="x", writer="a", network=network), ([("a", 1)], [("a", "b", 0)]))
+        self.assertEqual(runs.settle(most=1, choices=[0], network=network), 1)
+        self.assertEqual(runs.tree_at_rest(network=network), tree)
+        self.assertEqual(pasts.message_pasts(events=network.events(), tree=tree), [("a", "x", ())])
+        self.assertEqual(pasts.log_indexes(host="b", events=network.events(), tree=tree), [0])
+        self.assertEqual(reports.reason(host="a", network=network), [])
+        self.assertIs(reports.is_reason(value=[], host="a", network=network), True)
