@@ -1,5 +1,7 @@
 """Integers from 0 on, as bits, cuts and numbers of deliveries, and how they are written."""
 
+from relinktree.names import DIGITS
+
 
 def is_integer_from(value, least):
     """Whether the value, of any kind, is an integer that is not less than `least`."""
@@ -17,3 +19,10 @@ def parse_index(text, size):
     # Compared with what would be written, so that no sign and no leading zero gets through.
     written = [str(index) for index in range(size)]
     return written.index(text) if text in written else None
+
+
+def parse_number(text):
+    """The integer from 0 on that is written as the text, or None if there is none."""
+    if text == "" or not all([character in DIGITS for character in text]):
+        return None
+    return None if text[0] == "0" and text != "0" else int(text)

@@ -3,7 +3,7 @@
 from relinktree.errors import InvalidItem, InvalidText
 from relinktree.integers import is_index, parse_index
 from relinktree.names import is_host_name, is_word
-from relinktree.relinks import is_relink
+from relinktree.relinks import is_relink, relink_from, relink_text
 
 MESSAGE = "message"
 BYE = "bye"
@@ -48,9 +48,7 @@ def item_text(item):
     check_item(item)
     if not is_control_kind(item[0]):
         return " ".join([str(part) for part in item])
-    kind, path, cut = item
-    hosts = ",".join(path)
-    return f"{kind} {hosts} {cut}"
+    return f"{item[0]} {relink_text(item[1:])}"
 
 
 def parse_item(text):
@@ -69,7 +67,6 @@ def item_from(parts):
         kind, writer, word, bit = parts
         return (kind, writer, word, parse_index(bit, BITS))
     if len(parts) == 3:
-        kind, hosts, cut = parts
-        path = tuple(hosts.split(","))
-        return (kind, path, parse_index(cut, len(path) - 1))
+        path, cut = relink_from(parts[1], parts[2])
+        return (parts[0], path, cut)
     return tuple(parts)

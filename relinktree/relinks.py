@@ -1,7 +1,7 @@
 """Relinks: pairs (path, cut) that add one link to a tree and remove another one."""
 
 from relinktree.errors import InvalidRelink, UnknownHost
-from relinktree.integers import is_index
+from relinktree.integers import is_index, parse_index
 from relinktree.names import is_host_name
 
 SHORTEST_PATH = 3
@@ -71,3 +71,16 @@ def are_independent(one, other):
     check_relink(one)
     check_relink(other)
     return not any([host in other[0] for host in one[0]])
+
+
+def relink_text(relink):
+    """The written form of the relink: its hosts, joined by commas, and its cut."""
+    path, cut = relink
+    hosts = ",".join(path)
+    return f"{hosts} {cut}"
+
+
+def relink_from(hosts, cut):
+    """The relink with these two written parts; if they are those of no relink, a pair that is none."""
+    path = tuple(hosts.split(","))
+    return (path, parse_index(cut, len(path) - 1))

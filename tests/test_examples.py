@@ -351,6 +351,68 @@ raises TooMany(limit=1)
 >>> network.write("a", "x")
 >>> whereabouts(network, "a", "x")
 ([('a', 1)], [('a', 'b', 0)])
+
+>>> from relinktree.trees import Tree
+>>> from relinktree.plans import plan
+>>> tree = Tree(["a", "b", "c"], [("a", "b"), ("b", "c")])
+>>> [len(plan(tree, Tree(["a", "b", "c"], [("a", "b"), ("a", "c")]))), plan(tree, tree)]
+[1, []]
+
+>>> from relinktree.trees import Tree
+>>> from relinktree.plans import apply_plan
+>>> tree = Tree(["a", "b", "c"], [("a", "b"), ("b", "c")])
+>>> apply_plan(tree, [(("a", "b", "c"), 1), (("b", "a", "c"), 0)]).links()
+[('a', 'c'), ('b', 'c')]
+
+>>> from relinktree.trees import Tree
+>>> from relinktree.plans import is_plan
+>>> tree = Tree(["a", "b", "c"], [("a", "b"), ("b", "c")])
+>>> [is_plan(tree, tree, []), is_plan(tree, tree, [(("a", "b", "c"), 1)])]
+[True, False]
+
+>>> from relinktree.trees import Tree
+>>> from relinktree.explore import explore
+>>> explore(Tree(["a", "b"], [("a", "b")]), {"a": [("write", "x")]})
+(3, [(('a', (('a', 'x'),)), ('b', (('a', 'x'),)))])
+
+>>> from relinktree.trees import Tree
+>>> from relinktree.texts import tree_text, parse_tree
+>>> text = tree_text(Tree(["b", "a"], [("a", "b")]))
+>>> [text, parse_tree(text).links()]
+['host a\nhost b\nlink a b\n', [('a', 'b')]]
+
+>>> from relinktree.texts import parse_tree
+>>> parse_tree("host b\nhost a\n")
+raises InvalidLine(line=2)
+
+>>> from relinktree.texts import event_text, parse_event
+>>> [event_text(("ask", ("a", "b", "c"), 1)), parse_event("add c a")]
+['ask a,b,c 1', ('add', 'c', 'a')]
+
+>>> from relinktree.trees import Tree
+>>> from relinktree.networks import Network
+>>> from relinktree.texts import history_text, parse_history
+>>> network = Network(Tree(["a", "b"], [("a", "b")]))
+>>> network.write("b", "x")
+>>> text = history_text(network)
+>>> [text, parse_history(text) == network]
+['host a\nhost b\nlink a b\nevents\nwrite b x\n', True]
+
+>>> from relinktree.desk import Desk
+>>> desk = Desk()
+>>> answers = [desk.execute("tree a,b,c a-b,b-c"), desk.execute("write a hi"), desk.execute("settle")]
+>>> [answers, desk.execute("log c"), desk.execute("links b")]
+[['ok', 'ok', '2'], 'a:hi', 'a c']
+
+>>> from relinktree.desk import Desk
+>>> Desk().execute("rest")
+raises NoNetwork
+
+>>> from relinktree.desk import Desk
+>>> desk = Desk()
+>>> answer = desk.execute("tree a -")
+>>> desk.network().hosts()
+['a']
 '''
 
 
@@ -369,7 +431,7 @@ def outcome(lines):
 class Examples(unittest.TestCase):
     def test_every_example(self):
         examples = EXAMPLES.strip().split("\n\n")
-        self.assertEqual(len(examples), 63)
+        self.assertEqual(len(examples), 74)
         for example in examples:
             *lines, expected = example.split("\n")
             with self.subTest(example=example):

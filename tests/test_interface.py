@@ -3,8 +3,10 @@
 import inspect
 import unittest
 
-from relinktree import channels, errors, hosts, items, names, networks, pasts, relinks, reports, roles, runs, trees
+from relinktree import channels, desk, errors, explore, hosts, items, names, networks, pasts, plans, relinks, reports
+from relinktree import roles, runs, texts, trees
 from relinktree.channels import Channels
+from relinktree.desk import Desk
 from relinktree.hosts import Host
 from relinktree.networks import Network
 from relinktree.trees import Tree
@@ -26,9 +28,15 @@ FUNCTIONS = {
     reports: {
         "reason": "(network, host)", "is_reason": "(network, host, value)", "whereabouts": "(network, writer, word)",
     },
+    plans: {"plan": "(tree, goal)", "apply_plan": "(tree, relinks)", "is_plan": "(tree, goal, value)"},
+    explore: {"explore": "(tree, scripts, *, limit=2000)"},
+    texts: {
+        "tree_text": "(tree)", "parse_tree": "(text)", "event_text": "(event)", "parse_event": "(text)",
+        "history_text": "(network)", "parse_history": "(text)",
+    },
 }
 
-CLASSES = {trees: Tree, channels: Channels, hosts: Host, networks: Network}
+CLASSES = {trees: Tree, channels: Channels, hosts: Host, networks: Network, desk: Desk}
 
 METHODS = {
     Tree: {
@@ -55,6 +63,7 @@ METHODS = {
         "remove_leaf": "(self, host)", "do": "(self, event)", "events": "(self)", "copied": "(self)",
         "__eq__": "(self, other)", "__len__": "(self)",
     },
+    Desk: {"__init__": "(self)", "execute": "(self, command)", "log": "(self)", "network": "(self)"},
 }
 
 
@@ -152,3 +161,17 @@ class ArgumentsByName(unittest.TestCase):
         self.assertEqual(pasts.log_indexes(host="b", events=network.events(), tree=tree), [0])
         self.assertEqual(reports.reason(host="a", network=network), [])
         self.assertIs(reports.is_reason(value=[], host="a", network=network), True)
+
+    def test_functions_of_plans_explore_and_texts(self):
+        tree = Tree(["a", "b", "c"], [("a", "b"), ("b", "c")])
+        goal = tree.relinked(("a", "b", "c"), 1)
+        relinks_to_goal = plans.plan(goal=goal, tree=tree)
+        self.assertEqual(plans.apply_plan(relinks=relinks_to_goal, tree=tree), goal)
+        self.assertIs(plans.is_plan(value=relinks_to_goal, goal=goal, tree=tree), True)
+        self.assertEqual(explore.explore(limit=4, scripts={"a": [("write", "x")]}, tree=tree)[0], 4)
+        self.assertEqual(texts.parse_tree(text=texts.tree_text(tree=tree)), tree)
+        self.assertEqual(texts.parse_event(text=texts.event_text(event=("remove", "a"))), ("remove", "a"))
+        self.assertEqual(texts.parse_history(text=texts.history_text(network=Network(tree))), Network(tree))
+
+    def test_methods_of_desks(self):
+        self.assertEqual(Desk().execute(command="tree a -"), "ok")
