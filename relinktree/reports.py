@@ -43,17 +43,10 @@ def brings_nearer(item, goal, relink, host):
 def bye_row(network, host, relink):
     """The tuple of the "bye" of the host that left before the "ask" of the relink reached it."""
     path = relink[0]
-    rows = []
-    for goal, source in zip(path[:-1], path[1:]):
-        items = network.in_flight(source, goal)
-        if BYE_ITEM in items and is_reserved(network.member(goal), relink):
-            rows.append((host, "bye", source, goal, items.index(BYE_ITEM)))
-    return rows[0]
-
-
-def is_reserved(member, relink):
-    """Whether the host is reserved for the relink."""
-    return member.relink() == relink and member.phase() == "reserved"
+    # The hosts ahead of the one that left are reserved and so all present: its "bye" is the first one along the path.
+    found = [(source, goal) for goal, source in zip(path[:-1], path[1:]) if BYE_ITEM in network.in_flight(source, goal)]
+    source, goal = found[0]
+    return (host, "bye", source, goal, network.in_flight(source, goal).index(BYE_ITEM))
 
 
 def is_reason(network, host, value):

@@ -28,19 +28,20 @@ def network_on(names):
 
 def host_state(host):
     return (
-        host.name(), host.links(), host.log(), host.relink(), host.phase(), host.waits_for(), host.queue(),
-        host.answers(),
+        host.name(), list(host.links()), list(host.log()), host.relink(), host.phase(), host.waits_for(),
+        list(host.queue()), list(host.answers()),
     )
 
 
 def state(network):
     """All that can be asked of a network, except its events and its first tree."""
-    flights = {pair: network.in_flight(*pair) for pair in network.busy()}
+    # Copies, so that a list that the network would share does not change here too.
+    flights = {pair: list(network.in_flight(*pair)) for pair in network.busy()}
     return ([host_state(network.member(name)) for name in network.hosts()], flights, len(network), network.is_at_rest())
 
 
 def whole(network):
-    return (state(network), network.events(), network.first_tree())
+    return (state(network), list(network.events()), network.first_tree())
 
 
 def deliver_all(network, *pairs):

@@ -80,11 +80,12 @@ class Queries(Case):
     def test_changes_of_returned_lists_have_no_effect(self):
         for host in hosts_in_all_phases():
             host.write("hi")
-            before = queries(host)
+            # Kept as a text, so that a list that the host would share does not change here too.
+            before = repr(queries(host))
             for change in [lambda values: values.append("more"), lambda values: values.clear()]:
                 for values in [host.log(), host.links(), host.answers(), host.queue()]:
                     change(values)
-                self.assertEqual(queries(host), before)
+                self.assertEqual(repr(queries(host)), before)
 
     def test_returned_lists_do_not_change_later(self):
         host = turned_host(PATH, 2, 4)

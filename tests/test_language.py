@@ -25,6 +25,7 @@ METHODS_OF_VALUES = {
     "remove", "replace", "reverse", "rfind", "rjust", "rpartition", "rsplit", "rstrip", "setdefault", "split",
     "splitlines", "startswith", "strip", "update", "upper", "values", "zfill", "bit_length",
 }
+CHANGES = {"append", "clear", "extend", "insert", "pop", "remove", "reverse", "setdefault", "update", "sort"}
 # Names of which a method of a string, a list or a dict would be called instead.
 TAKEN = {name for kind in (str, int, bytes, list, tuple, dict, set) for name in dir(kind)} - {
     "add", "count", "copy", "discard", "find", "get", "index", "join", "lower", "split", "strip", "title", "upper",
@@ -48,6 +49,17 @@ def methods():
 def attributes():
     """The names of the attributes that are assigned anywhere."""
     return {node.attr for _, node in nodes(ast.Attribute) if isinstance(node.ctx, ast.Store)}
+
+
+def defined_names(tree):
+    """The names that a file defines at its top."""
+    names = []
+    for part in tree.body:
+        if isinstance(part, (ast.FunctionDef, ast.ClassDef)):
+            names.append(part.name)
+        if isinstance(part, ast.Assign):
+            names += [target.id for target in part.targets]
+    return names
 
 
 class Files(unittest.TestCase):
@@ -81,6 +93,49 @@ class Code(unittest.TestCase):
             self.assertEqual(node.level, 0)
             self.assertIn(FOLDER / (node.module.removeprefix("relinktree.") + ".py"), FILES, file)
             self.assertIn(node, TREES[file].body)
+
+    def test_names_are_imported_from_the_file_that_defines_them(self):
+        for file, node in nodes(ast.ImportFrom):
+            defined = defined_names(TREES[FOLDER / (node.module.removeprefix("relinktree.") + ".py")])
+            for alias in node.names:
+                self.assertIn(alias.name, defined, (file, node.lineno))
+                self.assertIsNone(alias.asname, (file, node.lineno))
+
+    def test_names_of_a_file_are_bound_once_and_used(self):
+        for file, tree in TREES.items():
+            imported = [alias.name for part in tree.body if isinstance(part, ast.ImportFrom) for alias in part.names]
+            bound = imported + defined_names(tree)
+            self.assertEqual(len(set(bound)), len(bound), file)
+            used = {node.id for node in ast.walk(tree) if isinstance(node, ast.Name)}
+            self.assertEqual([name for name in imported if name not in used], [], file)
+
+    def test_only_own_errors_are_caught(self):
+        own = defined_names(TREES[FOLDER / "errors.py"])
+        for file, node in nodes(ast.ExceptHandler):
+            caught = node.type.elts if isinstance(node.type, ast.Tuple) else [node.type]
+            for kind in caught:
+                self.assertIn(kind.id, own, (file, node.lineno))
+
+    def test_what_is_raised_is_created_on_the_spot(self):
+        own = defined_names(TREES[FOLDER / "errors.py"])
+        for file, node in nodes(ast.Raise):
+            self.assertIn(node.exc.func.id, own, (file, node.lineno))
+
+    def test_lazy_values_are_iterated_on_the_spot(self):
+        for file, node in nodes(ast.Assign):
+            if isinstance(node.value, ast.Call) and isinstance(node.value.func, ast.Name):
+                self.assertNotIn(node.value.func.id, ("zip", "enumerate", "range", "reversed"), (file, node.lineno))
+            if isinstance(node.value, ast.Call) and isinstance(node.value.func, ast.Attribute):
+                self.assertNotIn(node.value.func.attr, ("items", "keys", "values"), (file, node.lineno))
+
+    def test_what_a_loop_iterates_over_is_not_changed(self):
+        for file, node in nodes(ast.For):
+            iterated = {ast.unparse(part) for part in ast.walk(node.iter) if isinstance(part, (ast.Name, ast.Attribute))}
+            for part in [inner for statement in node.body for inner in ast.walk(statement)]:
+                if isinstance(part, ast.Call) and isinstance(part.func, ast.Attribute) and part.func.attr in CHANGES:
+                    self.assertNotIn(ast.unparse(part.func.value), iterated, (file, part.lineno))
+                if isinstance(part, ast.Subscript) and not isinstance(part.ctx, ast.Load):
+                    self.assertNotIn(ast.unparse(part.value), iterated, (file, part.lineno))
 
     def test_module_level(self):
         for file, tree in TREES.items():

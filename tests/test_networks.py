@@ -270,6 +270,17 @@ class Equality(NetworkCase):
         self.assertTrue(network.is_at_rest())
         self.assertFalse(network == network_on("ab"))
 
+    def test_what_is_in_flight_counts(self):
+        one, other = network_on("abc"), network_on("abc")
+        one.write("c", "x")
+        for network in (one, other):
+            network.remove_leaf("c")
+        self.assertEqual(state(one)[0], state(other)[0])
+        self.assertFalse(one == other)
+        one.deliver("c", "b")
+        self.assertEqual(one.in_flight("c", "b"), other.in_flight("c", "b"))
+        self.assertFalse(one == other)
+
     def test_used_names_count(self):
         network = network_on("ab")
         network.add_leaf("c", at="a")

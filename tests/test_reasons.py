@@ -191,6 +191,17 @@ class Byes(ReasonCase):
         deliver_all(network, "xb", "ya")
         self.check(network, "a", "a bye c b 0")
 
+    def test_other_byes_along_the_path_do_not_count(self):
+        path = ("a", "x", "b", "c")
+        network = Network(tree_of("xa ab bc"))
+        network.ask(path, 0)
+        network.remove_leaf("x")
+        network.remove_leaf("c")
+        self.check(network, "a", "a bye x a 0")
+        network.ask(("b", "c", "a"), 0)
+        self.check(network, "a", "a bye x a 0")
+        self.check(network, "b", "b bye c b 0")
+
 
 class Queues(ReasonCase):
     def test_an_ask_in_the_queue_of_a_last_host(self):
